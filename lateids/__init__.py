@@ -1,0 +1,1 @@
+"""lateids: rows that a poller misses because they commit late."""

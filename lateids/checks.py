@@ -1,0 +1,42 @@
+"""Checks of values that several modules share."""
+
+from lateids.errors import InvalidMoment, InvalidOrder
+
+GREATEST_ID = 10 ** 30
+MOST_IDS = 30
+
+
+def is_integer(value):
+    """Return whether any value is an integer."""
+    # For Python, True and False are of the kind int, too.
+    return isinstance(value, int) and not isinstance(value, bool)
+
+
+def is_between(value, low, high):
+    """Return whether any value is an integer from low to high."""
+    return is_integer(value) and low <= value <= high
+
+
+def is_id(value):
+    """Return whether any value is an id."""
+    return is_between(value, 1, GREATEST_ID)
+
+
+def is_order(value):
+    """Return whether any value is an order."""
+    if not isinstance(value, list) or len(value) > MOST_IDS:
+        return False
+    # What is no id may have no hash, so the kinds are looked at first.
+    return all([is_id(row) for row in value]) and len(set(value)) == len(value)
+
+
+def check_order(order):
+    """Raise InvalidOrder unless this is an order."""
+    if not is_order(order):
+        raise InvalidOrder("not a list of at most 30 different ids")
+
+
+def check_moment(order, moment):
+    """Raise InvalidMoment unless this is a moment of the order."""
+    if not is_between(moment, 0, len(order)):
+        raise InvalidMoment("not an integer from 0 to the number of ids")

@@ -1,0 +1,71 @@
+"""The form of the package: its files, their sizes and characters, and the README."""
+
+import ast
+import doctest
+import pathlib
+import unittest
+
+TOP = pathlib.Path(__file__).resolve().parent.parent
+FILES = sorted((TOP / "lateids").rglob("*.py"))
+
+INTERFACE = {
+    "histories": {
+        "is_history": ["value"], "order_of": ["history"], "open_at": ["history", "position"],
+        "safe_at": ["history", "position"], "spans": ["history"],
+    },
+    "moments": {
+        "visible_at": ["order", "moment"], "top_at": ["order", "moment"], "missed_at": ["order", "moment"],
+        "missed_counts": ["order"], "danger_of": ["order", "row"], "safe_ids": ["order"],
+    },
+}
+
+
+def tree_of(file):
+    return ast.parse(file.read_text())
+
+
+class PackageTest(unittest.TestCase):
+
+    def test_the_folder_holds_python_files_only(self):
+        others = [path for path in (TOP / "lateids").rglob("*")
+                  if path.is_file() and path.suffix != ".py" and "__pycache__" not in path.parts]
+        self.assertEqual(others, [])
+        self.assertIn(TOP / "lateids" / "__init__.py", FILES)
+
+    def test_characters_and_sizes(self):
+        for file in FILES:
+            text = file.read_text()
+            self.assertTrue(all(letter == "\n" or " " <= letter <= "~" for letter in text), file)
+            self.assertLessEqual(len(text.splitlines()), 399, file)
+            self.assertLessEqual(max([len(line) for line in text.splitlines()]), 120, file)
+
+    def test_functions_are_short(self):
+        for file in FILES:
+            for node in ast.walk(tree_of(file)):
+                if isinstance(node, ast.FunctionDef):
+                    self.assertLessEqual(node.end_lineno - node.lineno + 1, 40, node.name)
+
+    def test_imports_are_from_the_package(self):
+        for file in FILES:
+            for node in ast.walk(tree_of(file)):
+                self.assertNotIsInstance(node, ast.Import, file)
+                if isinstance(node, ast.ImportFrom):
+                    self.assertEqual(node.level, 0)
+                    self.assertEqual(node.module.split(".")[0], "lateids")
+
+    def test_functions_of_the_interface_are_defined_in_their_files(self):
+        for name, functions in INTERFACE.items():
+            tree = tree_of(TOP / "lateids" / (name + ".py"))
+            defined = {node.name: [word.arg for word in node.args.args] for node in tree.body
+                       if isinstance(node, ast.FunctionDef)}
+            for function, parameters in functions.items():
+                self.assertEqual(defined.get(function), parameters, function)
+
+    def test_examples_of_the_readme(self):
+        failed, tried = doctest.testfile(str(TOP / "README.md"), module_relative=False)
+        self.assertEqual(failed, 0)
+        self.assertGreater(tried, 0)
+
+
+if __name__ == "__main__":
+    unittest.main()
