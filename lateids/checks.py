@@ -1,9 +1,10 @@
 """Checks of values that several modules share."""
 
-from lateids.errors import InvalidMoment, InvalidOrder
+from lateids.errors import InvalidMoment, InvalidNumber, InvalidOrder, InvalidPolls
 
 GREATEST_ID = 10 ** 30
 MOST_IDS = 30
+MOST_POLLS = 30
 
 
 def is_integer(value):
@@ -40,3 +41,29 @@ def check_moment(order, moment):
     """Raise InvalidMoment unless this is a moment of the order."""
     if not is_between(moment, 0, len(order)):
         raise InvalidMoment("not an integer from 0 to the number of ids")
+
+
+def are_polls(order, value):
+    """Return whether any value is a list of polls at moments of the order."""
+    if not isinstance(value, list) or len(value) > MOST_POLLS:
+        return False
+    # What is no integer may not be sortable, so the kinds are looked at first.
+    return all([is_between(moment, 0, len(order)) for moment in value]) and value == sorted(value)
+
+
+def check_polls(order, polls):
+    """Raise InvalidPolls unless these are polls at moments of the order."""
+    if not are_polls(order, polls):
+        raise InvalidPolls("not a list of at most 30 moments, none less than the one before")
+
+
+def check_at_least(value, low):
+    """Raise InvalidNumber unless this is an integer from low on."""
+    if not is_integer(value) or value < low:
+        raise InvalidNumber("not an integer, or one that is too small")
+
+
+def check_between(value, low, high):
+    """Raise InvalidNumber unless this is an integer from low to high."""
+    if not is_between(value, low, high):
+        raise InvalidNumber("not an integer, or one out of range")

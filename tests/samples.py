@@ -1,6 +1,7 @@
 """Values and checks that several test files share."""
 
 import copy
+import sys
 import unittest
 
 
@@ -39,29 +40,62 @@ NO_LISTS = [
 ]
 
 
+def steps_of(call, most=10 ** 7):
+    """Return how many small steps a call of no arguments takes, whatever else the machine does."""
+    steps = 0
+
+    def trace(frame, event, arg):
+        nonlocal steps
+        frame.f_trace_opcodes = True
+        if event == "opcode":
+            steps += 1
+            if steps > most:
+                raise AssertionError(f"more than {most} steps")
+        return trace
+
+    before = sys.gettrace()
+    sys.settrace(trace)
+    try:
+        # Some Pythons do not count the steps of the first function that is traced.
+        sum(k for k in range(3))
+        steps = 0
+        call()
+    finally:
+        sys.settrace(before)
+    return steps
+
+
+def spoil(value):
+    """Change every list and every dict in a value."""
+    if isinstance(value, (list, tuple)):
+        for item in value:
+            spoil(item)
+    if isinstance(value, list):
+        value.append(77)
+    elif isinstance(value, dict):
+        value[77] = 77
+
+
 class ExactCase(unittest.TestCase):
     """A test case for results and errors of exactly one kind."""
 
-    def assert_raises_exactly(self, error, function, *values):
+    def assert_raises_exactly(self, error, function, *values, **named):
         try:
-            function(*values)
+            function(*values, **named)
         except Exception as found:
             self.assertIs(type(found), error, found)
             if not vars(found):
                 self.assertEqual([type(word) for word in found.args], [str])
-        else:
-            self.fail(f"{function.__name__} raised no {error.__name__}")
+            return found
+        self.fail(f"{function.__name__} raised no {error.__name__}")
 
-    def assert_unchanged(self, function, *values):
+    def assert_unchanged(self, function, *values, **named):
         """Check that a call leaves its arguments and keeps nothing of its result."""
         before = copy.deepcopy(values)
-        first = function(*values)
+        first = function(*values, **named)
         self.assertEqual(values, before)
         kept = copy.deepcopy(first)
-        if isinstance(first, list):
-            first.append(77)
-        elif isinstance(first, dict):
-            first[77] = 77
+        spoil(first)
         self.assertEqual(values, before)
-        self.assertEqual(function(*values), kept)
-        self.assertEqual(function(*before), kept)
+        self.assertEqual(function(*values, **named), kept)
+        self.assertEqual(function(*before, **named), kept)

@@ -1,37 +1,11 @@
 """Moments: points [5], [7] and [17] to [19], and the conventions [2] for them."""
 
-import itertools
-import random
 import unittest
 
 from lateids.errors import InvalidId, InvalidMoment, InvalidOrder
 from lateids.moments import danger_of, missed_at, missed_counts, safe_ids, top_at, visible_at
-from samples import NO_INTEGERS, NO_LISTS, Equal, ExactCase, Odd
-
-GREATEST = 10 ** 30
-EXAMPLE = [2, 1, 4, 5, 3, 7, 6]
-
-
-def some_orders():
-    """Return orders of all lengths, ascending, nearly ascending, descending and mixed."""
-    source = random.Random(17)
-    orders = [[], [1], [GREATEST], EXAMPLE, [GREATEST, 1], [1, GREATEST], [GREATEST, GREATEST - 1, GREATEST - 2]]
-    for many in range(2, 31):
-        ascending = list(range(1, many + 1))
-        nearly = list(ascending)
-        for _ in range(many // 3):
-            at = source.randrange(many - 1)
-            nearly[at], nearly[at + 1] = nearly[at + 1], nearly[at]
-        mixed = source.sample(ascending, many)
-        great = [source.randint(1, GREATEST) for _ in range(many)]
-        orders += [ascending, nearly, ascending[::-1], mixed, great, sorted(great), [ascending[-1]] + ascending[:-1]]
-    return orders
-
-
-def small_orders():
-    """Return the orders of all sets of at most four ids up to five, and of six ids."""
-    short = [list(ids) for many in range(5) for ids in itertools.permutations([1, 2, 3, 4, 5], many)]
-    return short + [list(ids) for ids in itertools.permutations([1, 3, 4, 7, 8, GREATEST])]
+from orders import ALL_ORDERS, EXAMPLE, GREATEST, WRONG_ORDERS, some_orders
+from samples import NO_INTEGERS, ExactCase, Odd
 
 
 def plain_top(order, moment):
@@ -40,17 +14,6 @@ def plain_top(order, moment):
         top = row if row > top else top
     return top
 
-
-ALL_ORDERS = some_orders() + small_orders()
-
-WRONG_ORDERS = NO_LISTS + [
-    [0], [-1], [GREATEST + 1], [-GREATEST], [1, 0], [2, 1, -3], [1, GREATEST + 1], [10 ** 40],
-    [1, 1], [2, 1, 2], [GREATEST, 5, GREATEST], [3, 3, 3],
-    list(range(1, 32)), list(range(31, 0, -1)), list(range(1, 31)) + [1], [1] * 31, list(range(0, 31)),
-    (1, 2), (), ((1, 2),), [[1, 2]], [[]], [(1,)], [1, [2]], [1, (2,)], [Odd(), Odd()], [Odd(), 1], [1, Odd()],
-    [Equal()], [1, Equal()], ["1", "2"], [1, "2"], [1.0, 2.0], [1, 2.0], [True, 2], [2, True], [1, True], [True], [False],
-    {1: 2, 2: 1}, {2, 1},
-] + [[value] for value in NO_INTEGERS] + [[5, 4, value] for value in NO_INTEGERS]
 
 OF_AN_ORDER = [missed_counts, safe_ids]
 WITH_MOMENT = [visible_at, top_at, missed_at]

@@ -2,20 +2,36 @@
 
 import ast
 import doctest
+import importlib
+import inspect
 import pathlib
 import unittest
 
 TOP = pathlib.Path(__file__).resolve().parent.parent
 FILES = sorted((TOP / "lateids").rglob("*.py"))
 
+READER = "order, polls, *, overlap=1, wait=0, page=None"
+
 INTERFACE = {
     "histories": {
-        "is_history": ["value"], "order_of": ["history"], "open_at": ["history", "position"],
-        "safe_at": ["history", "position"], "spans": ["history"],
+        "is_history": "value", "order_of": "history", "open_at": "history, position", "safe_at": "history, position",
+        "spans": "history",
     },
     "moments": {
-        "visible_at": ["order", "moment"], "top_at": ["order", "moment"], "missed_at": ["order", "moment"],
-        "missed_counts": ["order"], "danger_of": ["order", "row"], "safe_ids": ["order"],
+        "visible_at": "order, moment", "top_at": "order, moment", "missed_at": "order, moment",
+        "missed_counts": "order", "danger_of": "order, row", "safe_ids": "order",
+    },
+    "readers": {"read": READER, "states": READER, "lost_ids": READER, "walk_polls": "order, polls"},
+    "exact": {
+        "can_lose": "order, ids", "alone_ids": "order", "polls_for": "order, ids", "count_polls_for": "order, ids",
+    },
+    "schedules": {
+        "lost_between": "order, earlier, later", "least_loss": "order, gap", "best_schedule": "order, gap",
+        "least_loss_of": "order, count", "greatest_loss_of": "order, count", "schedule_of": "order, count, loss",
+    },
+    "margins": {
+        "reaches": "order, polls", "waits": "order, polls", "least_overlap": "order, polls, most",
+        "least_wait": "order, polls, most", "greatest_reach": "order",
     },
 }
 
@@ -56,10 +72,11 @@ class PackageTest(unittest.TestCase):
     def test_functions_of_the_interface_are_defined_in_their_files(self):
         for name, functions in INTERFACE.items():
             tree = tree_of(TOP / "lateids" / (name + ".py"))
-            defined = {node.name: [word.arg for word in node.args.args] for node in tree.body
-                       if isinstance(node, ast.FunctionDef)}
+            defined = {node.name: ast.unparse(node.args) for node in tree.body if isinstance(node, ast.FunctionDef)}
+            module = importlib.import_module("lateids." + name)
             for function, parameters in functions.items():
                 self.assertEqual(defined.get(function), parameters, function)
+                self.assertEqual(str(inspect.signature(getattr(module, function))), f"({parameters})")
 
     def test_examples_of_the_readme(self):
         failed, tried = doctest.testfile(str(TOP / "README.md"), module_relative=False)
