@@ -22,25 +22,22 @@ def begun_by(events):
     return len([event for event in events if event[0] == "begin"])
 
 
-def ended_by(events):
-    """Return the ids that these events commit or roll back."""
-    return [event[1] for event in events if event[0] != "begin"]
-
-
-def can_follow(events, event):
-    """Return whether an event can stand behind the events of a history."""
-    if event[0] == "begin":
-        return True
-    return event[1] <= begun_by(events) and event[1] not in ended_by(events)
-
-
 def is_history(value):
     """Return whether any value is a history."""
     if not isinstance(value, list) or len(value) > MOST_EVENTS:
         return False
-    if not all([is_event(event) for event in value]):
-        return False
-    return all([can_follow(value[:k], value[k]) for k in range(len(value))])
+    # One item for each begun id: whether it is still open. With them, each event is looked at once.
+    still_open = []
+    for event in value:
+        if not is_event(event):
+            return False
+        if event[0] == "begin":
+            still_open.append(True)
+        elif event[1] <= len(still_open) and still_open[event[1] - 1]:
+            still_open[event[1] - 1] = False
+        else:
+            return False
+    return True
 
 
 def check_history(history):
@@ -81,14 +78,17 @@ def spans(history):
     """Return how many ids begin between the begin and the commit of each id."""
     check_history(history)
     found = {}
-    for position, event in enumerate(history):
-        if event[0] == "commit":
+    begun = 0
+    for event in history:
+        if event[0] == "begin":
+            begun += 1
+        elif event[0] == "commit":
             # The ids are the numbers of the begins, so this counts those behind its own.
-            found[event[1]] = begun_by(history[:position]) - event[1]
+            found[event[1]] = begun - event[1]
     return {row: found[row] for row in sorted(found)}
 
 
 def _open_behind(events):
     """Return the ascending list of the ids that these events leave open."""
-    ended = ended_by(events)
+    ended = {event[1]: True for event in events if event[0] != "begin"}
     return [row for row in range(1, begun_by(events) + 1) if row not in ended]

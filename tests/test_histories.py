@@ -6,7 +6,7 @@ import unittest
 
 from lateids.errors import InvalidHistory, InvalidPosition
 from lateids.histories import is_history, open_at, order_of, safe_at, spans
-from samples import NO_INTEGERS, NO_LISTS, Equal, ExactCase, Odd
+from samples import NO_INTEGERS, NO_LISTS, Equal, ExactCase, Odd, steps_of
 
 BEGIN = ("begin",)
 
@@ -247,6 +247,74 @@ class SpansTest(ExactCase):
     def test_wrong_histories(self):
         for value in WRONG_HISTORIES:
             self.assert_raises_exactly(InvalidHistory, spans, value)
+
+
+def long_histories():
+    """Return histories of forty to sixty events with many commits."""
+    source = random.Random(16)
+    histories = []
+    for rows in range(20, 31):
+        ids = list(range(1, rows + 1))
+        for order in [ids, ids[::-1], source.sample(ids, rows)]:
+            histories.append([BEGIN] * rows + [commit(row) for row in order])
+        histories.append([event for row in ids for event in [BEGIN, commit(row)]])
+        histories.append([BEGIN] + [event for row in ids[1:] for event in [BEGIN, commit(row)]] + [rollback(1)])
+    return histories
+
+
+class LongHistoriesTest(ExactCase):
+
+    def test_beside_a_replay(self):
+        for history in long_histories():
+            order = [event[1] for event in history if event[0] == "commit"]
+            self.assertEqual(order_of(history), order)
+            begins = [position for position, event in enumerate(history) if event == BEGIN]
+            expected = {row: history[begins[row - 1] + 1:history.index(commit(row))].count(BEGIN) for row in sorted(order)}
+            self.assertEqual(list(spans(history).items()), list(expected.items()))
+            for position, found in enumerate(replay(history)):
+                still = [row for row in sorted(found) if found[row] == "open"]
+                self.assertEqual(open_at(history, position), still)
+                self.assertEqual(safe_at(history, position), still[0] - 1 if still else len(found))
+            for position in [-1, len(history) + 1, None, True, Odd()]:
+                self.assert_raises_exactly(InvalidPosition, open_at, history, position)
+                self.assert_raises_exactly(InvalidPosition, safe_at, history, position)
+
+    def test_one_event_more_that_cannot_stand_there(self):
+        source = random.Random(61)
+        for history in long_histories():
+            for event in [BEGIN, commit(1), commit(19), rollback(7), commit(30), commit(31), commit(0), None, Odd()]:
+                at = source.randint(0, len(history))
+                events = history[:at] + [event] + history[at:]
+                wrong = not isinstance(event, tuple) or len(events) > 60 or replay(events) is None
+                self.assertIs(is_history(events), not wrong)
+                if not wrong:
+                    continue
+                for function in [order_of, spans]:
+                    self.assert_raises_exactly(InvalidHistory, function, events)
+                for function in [open_at, safe_at]:
+                    for position in [0, len(events), -1, None, Odd()]:
+                        self.assert_raises_exactly(InvalidHistory, function, events, position)
+
+    def test_twice_as_many_events_take_about_twice_as_long(self):
+        short = [BEGIN] * 15 + [commit(row) for row in range(1, 16)]
+        long = [BEGIN] * 30 + [commit(row) for row in range(1, 31)]
+        mixed = [event for row in range(1, 16) for event in [BEGIN, commit(row)]]
+        longer = [event for row in range(1, 31) for event in [BEGIN, commit(row)]]
+        for less, more in [(short, long), (mixed, longer)]:
+            for function in [is_history, order_of, spans]:
+                self.assertLess(steps_of(lambda: function(more)), 2.3 * steps_of(lambda: function(less)))
+            for function in [open_at, safe_at]:
+                steps = steps_of(lambda: function(less, len(less)))
+                self.assertLess(steps_of(lambda: function(more, len(more))), 2.3 * steps)
+
+    def test_each_event_takes_few_steps(self):
+        for history in long_histories():
+            most = 200 * len(history)
+            for function in [is_history, order_of, spans]:
+                steps_of(lambda: function(history), most)
+            for function in [open_at, safe_at]:
+                for position in [0, len(history) // 2, len(history)]:
+                    steps_of(lambda: function(history, position), most)
 
 
 class ConventionsTest(ExactCase):
