@@ -1,6 +1,6 @@
 """Checks of values that several modules share."""
 
-from lateids.errors import InvalidMoment, InvalidNumber, InvalidOrder, InvalidPolls
+from lateids.errors import InvalidIds, InvalidMoment, InvalidNumber, InvalidOrder, InvalidPolls
 
 GREATEST_ID = 10 ** 30
 MOST_IDS = 30
@@ -35,6 +35,17 @@ def check_order(order):
     """Raise InvalidOrder unless this is an order."""
     if not is_order(order):
         raise InvalidOrder("not a list of at most 30 different ids")
+
+
+def are_ids(value):
+    """Return whether any value is a strictly ascending list of at most 30 ids."""
+    return is_order(value) and value == sorted(value)
+
+
+def check_ids(ids):
+    """Raise InvalidIds unless this is a strictly ascending list of at most 30 ids."""
+    if not are_ids(ids):
+        raise InvalidIds("not a strictly ascending list of at most 30 ids")
 
 
 def check_moment(order, moment):

@@ -76,6 +76,40 @@ def spoil(value):
         value[77] = 77
 
 
+STRANGE = NO_INTEGERS + [0, 1, 2, 3, -1, 10 ** 30, 10 ** 30 + 1, [1, 2], [[]], ("begin",), ("commit", 1), ("poll", 0), (0, 0), (1, 1)]
+
+
+def changed(source, value):
+    """Return a list or tuple with one thing changed in it, or in what it holds; a source of random numbers chooses it."""
+    inner = [at for at, item in enumerate(value) if type(item) in (list, tuple)]
+    if inner and source.random() < 0.6:
+        at = source.choice(inner)
+        items = list(value)
+        items[at] = changed(source, value[at])
+        return type(value)(items)
+    items, many = list(value), len(value)
+    kind = source.randrange(8)
+    at = source.randrange(many) if many else 0
+    if kind == 0:
+        return tuple(items) if type(value) is list else items
+    if kind == 1 or not many:
+        items.insert(source.randint(0, many), source.choice(STRANGE))
+    elif kind == 2:
+        items[at] = source.choice(STRANGE)
+    elif kind == 3:
+        items.insert(source.randint(0, many), items[at])
+    elif kind == 4:
+        del items[at]
+    elif kind == 5:
+        other = source.randrange(many)
+        items[at], items[other] = items[other], items[at]
+    elif type(items[at]) is int:
+        items[at] += source.choice([-1, 1, 1, 2, 10 ** 30])
+    else:
+        items[at] = source.choice(items)
+    return type(value)(items)
+
+
 class ExactCase(unittest.TestCase):
     """A test case for results and errors of exactly one kind."""
 
