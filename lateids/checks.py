@@ -5,6 +5,7 @@ from lateids.errors import InvalidIds, InvalidMoment, InvalidNumber, InvalidOrde
 GREATEST_ID = 10 ** 30
 MOST_IDS = 30
 MOST_POLLS = 30
+LONGEST_NAME = 8
 
 
 def is_integer(value):
@@ -21,6 +22,13 @@ def is_between(value, low, high):
 def is_id(value):
     """Return whether any value is an id."""
     return is_between(value, 1, GREATEST_ID)
+
+
+def is_name(value):
+    """Return whether any value is a name of a reader."""
+    if not isinstance(value, str) or not 1 <= len(value) <= LONGEST_NAME:
+        return False
+    return all(["a" <= letter <= "z" for letter in value])
 
 
 def is_order(value):

@@ -22,22 +22,38 @@ def begun_by(events):
     return len([event for event in events if event[0] == "begin"])
 
 
+def committed_by(events):
+    """Return the ids that these events commit, in the order of their commits."""
+    return [event[1] for event in events if event[0] == "commit"]
+
+
+def open_behind(events):
+    """Return the ascending list of the ids that these events leave open."""
+    ended = {event[1]: True for event in events if event[0] != "begin"}
+    return [row for row in range(1, begun_by(events) + 1) if row not in ended]
+
+
 def is_history(value):
     """Return whether any value is a history."""
     if not isinstance(value, list) or len(value) > MOST_EVENTS:
         return False
+    return first_wrong(value) == len(value)
+
+
+def first_wrong(values):
+    """Return the position of the first value that is no event or cannot stand there, or their number."""
     # One item for each begun id: whether it is still open. With them, each event is looked at once.
     still_open = []
-    for event in value:
+    for position, event in enumerate(values):
         if not is_event(event):
-            return False
+            return position
         if event[0] == "begin":
             still_open.append(True)
         elif event[1] <= len(still_open) and still_open[event[1] - 1]:
             still_open[event[1] - 1] = False
         else:
-            return False
-    return True
+            return position
+    return len(values)
 
 
 def check_history(history):
@@ -55,14 +71,14 @@ def check_position(history, position):
 def order_of(history):
     """Return the ids that the history commits, in the order of their commits."""
     check_history(history)
-    return [event[1] for event in history if event[0] == "commit"]
+    return committed_by(history)
 
 
 def open_at(history, position):
     """Return the ascending list of the ids that are open at a position."""
     check_history(history)
     check_position(history, position)
-    return _open_behind(history[:position])
+    return open_behind(history[:position])
 
 
 def safe_at(history, position):
@@ -70,7 +86,7 @@ def safe_at(history, position):
     check_history(history)
     check_position(history, position)
     ahead = history[:position]
-    open_ids = _open_behind(ahead)
+    open_ids = open_behind(ahead)
     return open_ids[0] - 1 if open_ids else begun_by(ahead)
 
 
@@ -86,9 +102,3 @@ def spans(history):
             # The ids are the numbers of the begins, so this counts those behind its own.
             found[event[1]] = begun - event[1]
     return {row: found[row] for row in sorted(found)}
-
-
-def _open_behind(events):
-    """Return the ascending list of the ids that these events leave open."""
-    ended = {event[1]: True for event in events if event[0] != "begin"}
-    return [row for row in range(1, begun_by(events) + 1) if row not in ended]

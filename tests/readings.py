@@ -20,8 +20,10 @@ WRONG_LOGS = NO_LISTS + [
     ([1],), ((1,),), (), ([],), [(1,)], [[1], (2,)], [()], [[1], ()], [[[1]]], [[[]]], [[1, [2]]], [[1], [[2]]], [1, 2],
     [[1], 2], [1, [2]], [[Odd()]], [[Odd(), Odd()]], [Odd(), Odd()], [Equal()], [[Equal()]], [[1, Equal()]],
     ["1", "2"], [["1"]], [[1.0]], [[1], [2.0]], [[True]], [[True, 2]], [[1, True]], [[False]], [{1: 2}], [{1}], {1: [1]},
-] + [[value] for value in NO_LISTS] + [[[1], value] for value in NO_LISTS] + [
-    [[value]] for value in NO_INTEGERS] + [[[1], [value]] for value in NO_INTEGERS] + [[[1, 2], [3, value]] for value in NO_INTEGERS]
+]
+WRONG_LOGS += [[value] for value in NO_LISTS] + [[[1], value] for value in NO_LISTS]
+for _value in NO_INTEGERS:
+    WRONG_LOGS += [[[_value]], [[1], [_value]], [[1, 2], [3, _value]]]
 
 
 def plainly_a_log(value):
@@ -80,10 +82,12 @@ def some_cases():
     """Return tuples of a log and ids that it fits, small and great ones."""
     source = random.Random(33)
     cases = [
-        ([], []), ([], [1]), ([], FULL), ([[]], []), ([[]] * 12, FULL), ([[]] * 12, []), ([FULL], FULL), ([[GREATEST]], FULL + [GREATEST]),
+        ([], []), ([], [1]), ([], FULL), ([[]], []), ([[]] * 12, FULL), ([[]] * 12, []), ([FULL], FULL),
+        ([[GREATEST]], FULL + [GREATEST]),
         (EXAMPLE_LOG, EXAMPLE_IDS), (EXAMPLE_LOG, [2, 4, 5, 6, 7]), (EXAMPLE_LOG, EXAMPLE_IDS + [9, GREATEST]),
         ([[2], []], [1, 2]), ([[], [GREATEST], []], [1, GREATEST - 1, GREATEST]), ([[5], [], [6]], [1, 5, 6, 7]),
-        ([[row] for row in range(2, 26, 2)], FULL), ([[30]], FULL), ([[1]] + [[]] * 11, FULL), ([[row] for row in range(1, 13)], FULL),
+        ([[row] for row in range(2, 26, 2)], FULL), ([[30]], FULL), ([[1]] + [[]] * 11, FULL),
+        ([[row] for row in range(1, 13)], FULL),
     ]
     cases = [(log, ids[-30:]) for log, ids in cases]
     for many in range(31):

@@ -76,7 +76,8 @@ def spoil(value):
         value[77] = 77
 
 
-STRANGE = NO_INTEGERS + [0, 1, 2, 3, -1, 10 ** 30, 10 ** 30 + 1, [1, 2], [[]], ("begin",), ("commit", 1), ("poll", 0), (0, 0), (1, 1)]
+STRANGE = NO_INTEGERS + [0, 1, 2, 3, -1, 10 ** 30, 10 ** 30 + 1, [1, 2], [[]], ("begin",), ("commit", 1), ("poll", 0),
+                         (0, 0), (1, 1)]
 
 
 def changed(source, value):

@@ -10,18 +10,21 @@ from lateids.errors import InvalidCounts, InvalidIds, InvalidNumber, NoFit
 from lateids.logs import fits, is_log
 from orders import GREATEST, all_sets
 from readings import EXAMPLE_IDS, FULL, WRONG_IDS, drawn_ids, some_cases
-from samples import NO_INTEGERS, NO_LISTS, STRANGE, Equal, ExactCase, Odd, changed, steps_of
+from samples import NO_INTEGERS, NO_LISTS, Equal, ExactCase, Odd, changed, steps_of
 
 EXAMPLE_COUNTS = [(1, 2), (2, 5), (1, 7)]
 
 # (2, 1) is no list, but a count.
 WRONG_PAIRS = NO_INTEGERS + [value for value in NO_LISTS if type(value) is not tuple or value != (2, 1)] + [
-    0, 1, (0,), (0, 0, 0), (0, 1, 2), [0, 0], [1, 2], (-1, 0), (0, -1), (31, 2), (0, GREATEST + 1), (GREATEST, 2), (10 ** 40, 10 ** 40),
-    (True, 2), (1, True), (False, 0), (0, False), (None, 0), (0, None), (1.0, 2), (1, 2.0), ("1", 2), (1, "2"), ((1,), 2), (1, (2,)),
+    0, 1, (0,), (0, 0, 0), (0, 1, 2), [0, 0], [1, 2], (-1, 0), (0, -1), (31, 2), (0, GREATEST + 1), (GREATEST, 2),
+    (10 ** 40, 10 ** 40),
+    (True, 2), (1, True), (False, 0), (0, False), (None, 0), (0, None), (1.0, 2), (1, 2.0), ("1", 2), (1, "2"),
+    ((1,), 2), (1, (2,)),
     (Odd(), 2), (1, Odd()), (Equal(), 2), (1, Equal()), "12", {1: 2, 2: 3},
 ]
 WRONG_COUNTS = NO_LISTS + [
-    [(0, 0)] * 13, [(1, row) for row in range(1, 14)], ((0, 0),), [[0, 0]], [0, 0], [[(0, 0)]], [Odd()] * 400, [(0, 0)] * 400,
+    [(0, 0)] * 13, [(1, row) for row in range(1, 14)], ((0, 0),), [[0, 0]], [0, 0], [[(0, 0)]], [Odd()] * 400,
+    [(0, 0)] * 400,
 ] + [[value] for value in WRONG_PAIRS] + [[(1, 2), value] for value in WRONG_PAIRS]
 
 
@@ -93,7 +96,8 @@ class ExamplesTest(ExactCase):
 
     def test_logs(self):
         counts, ids = EXAMPLE_COUNTS, EXAMPLE_IDS
-        self.assertEqual([count_logs(counts, ids), nth_log(counts, ids, 0), nth_log(counts, ids, 1), count_logs([(1, 9)], ids)],
+        self.assertEqual([count_logs(counts, ids), nth_log(counts, ids, 0), nth_log(counts, ids, 1),
+                          count_logs([(1, 9)], ids)],
                          [2, [[2], [3, 5], [7]], [[2], [4, 5], [7]], 0])
 
 
@@ -170,7 +174,8 @@ class LongCountsTest(ExactCase):
 
     def check_known(self, counts, ids, logs):
         """Check the first and the last log, and the numbers of lost ids."""
-        self.assertEqual(sum(lost_numbers(counts, ids)), sum(word == "lost" for word in plain_states(logs[0], ids).values()))
+        self.assertEqual(sum(lost_numbers(counts, ids)),
+                         sum(word == "lost" for word in plain_states(logs[0], ids).values()))
         old, first, last = 0, [], []
         for number, cursor in counts:
             rows = [row for row in ids if old < row < cursor]
@@ -210,7 +215,8 @@ class LongCountsTest(ExactCase):
             counts = [(many, 30)]
             self.assertEqual(count_logs(counts, FULL), math.comb(29, many - 1))
             last = math.comb(29, many - 1) - 1
-            self.assertEqual([nth_log(counts, FULL, 0), nth_log(counts, FULL, last)], [[FULL[:many - 1] + [30]], [FULL[30 - many:]]])
+            self.assertEqual([nth_log(counts, FULL, 0), nth_log(counts, FULL, last)],
+                             [[FULL[:many - 1] + [30]], [FULL[30 - many:]]])
             self.assertEqual(lost_numbers(counts, FULL), [30 - many])
             word = {1: "lost", 30: "read"}.get(many, "unknown")
             self.assertEqual(states_by(counts, FULL), {row: "read" if row == 30 else word for row in FULL})
@@ -218,10 +224,12 @@ class LongCountsTest(ExactCase):
         self.assertIs(counts_fit([(30, 30)], FULL[1:]), False)
 
     def test_known_counts(self):
-        self.assertEqual([counts_fit([], []), lost_numbers([], FULL), count_logs([], FULL), nth_log([], FULL, 0)], [True, [], 1, []])
+        self.assertEqual([counts_fit([], []), lost_numbers([], FULL), count_logs([], FULL), nth_log([], FULL, 0)],
+                         [True, [], 1, []])
         self.assertEqual([states_by([], [1, 5]), states_by([], [])], [{1: "open", 5: "open"}, {}])
         self.assertEqual([lost_numbers([(0, 0)] * 12, FULL), nth_log([(0, 0)] * 12, [], 0)], [[0] * 12, [[]] * 12])
-        self.assertEqual([counts_fit([(1, 0)], FULL), counts_fit([(0, 1)], FULL), counts_fit([(1, 5), (1, 4)], FULL)], [False] * 3)
+        self.assertEqual([counts_fit([(1, 0)], FULL), counts_fit([(0, 1)], FULL), counts_fit([(1, 5), (1, 4)], FULL)],
+                         [False] * 3)
         self.assertEqual([counts_fit([(1, 5), (1, 5)], FULL), counts_fit([(1, 5), (2, 6)], FULL)], [False] * 2)
         self.assertEqual(counts_fit([(1, row) for row in range(1, 13)], FULL), True)
         self.assertEqual(lost_numbers([(1, GREATEST)], [1, 2, GREATEST]), [2])
@@ -247,7 +255,8 @@ class ErrorsTest(ExactCase):
                     self.assert_raises_exactly(InvalidIds, *call)
 
     def test_wrong_numbers(self):
-        for counts, ids in [(EXAMPLE_COUNTS, EXAMPLE_IDS), ([], []), ([(15, 30)], FULL), ([(1, 9)], [1]), ([(3, 2)], FULL)]:
+        for counts, ids in [(EXAMPLE_COUNTS, EXAMPLE_IDS), ([], []), ([(15, 30)], FULL), ([(1, 9)], [1]),
+                            ([(3, 2)], FULL)]:
             many = count_logs(counts, ids)
             for number in NO_INTEGERS + [-1, -many - 1, many, many + 1, GREATEST, 10 ** 40]:
                 self.assert_raises_exactly(InvalidNumber, nth_log, counts, ids, number)
@@ -292,7 +301,8 @@ class ConventionsTest(ExactCase):
     def test_the_greatest_arguments(self):
         far = [GREATEST - 30 + row for row in FULL]
         for ids in [FULL, far]:
-            for counts in [[(15, ids[-1])], [(1, row) for row in ids[2:28:2]][:12], [(0, 0)] * 12, [(0, 0)] * 11 + [(30, ids[-1])]]:
+            for counts in [[(15, ids[-1])], [(1, row) for row in ids[2:28:2]][:12], [(0, 0)] * 12,
+                           [(0, 0)] * 11 + [(30, ids[-1])]]:
                 for function in [counts_fit, lost_numbers, states_by, count_logs]:
                     steps_of(lambda: function(counts, ids), 30000)
                 steps_of(lambda: nth_log(counts, ids, count_logs(counts, ids) - 1), 60000)

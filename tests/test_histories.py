@@ -7,8 +7,7 @@ import unittest
 from lateids.errors import InvalidHistory, InvalidPosition
 from lateids.histories import is_history, open_at, order_of, safe_at, spans
 from samples import NO_INTEGERS, NO_LISTS, Equal, ExactCase, Odd, steps_of
-
-BEGIN = ("begin",)
+from tables import BEGIN, random_histories
 
 
 def commit(row):
@@ -32,26 +31,6 @@ def replay(events):
             return None
         found.append(dict(states))
     return found
-
-
-def random_history(source, events):
-    """Return a history of so many events; a source of random numbers chooses them."""
-    history = []
-    begun, open_ids = 0, []
-    for _ in range(events):
-        if open_ids and source.random() < 0.55:
-            row = open_ids.pop(source.randrange(len(open_ids)))
-            history.append((source.choice(["commit", "commit", "rollback"]), row))
-        else:
-            begun += 1
-            open_ids.append(begun)
-            history.append(BEGIN)
-    return history
-
-
-def random_histories():
-    source = random.Random(14)
-    return [random_history(source, events) for events in list(range(61)) * 3]
 
 
 def short_lists(most):

@@ -3,7 +3,6 @@
 import itertools
 import math
 import random
-
 import unittest
 
 from lateids.errors import InvalidId, InvalidIds, InvalidLog, InvalidNumber, InvalidOrder, NotPossible
@@ -18,8 +17,10 @@ CASES = some_cases()
 
 # What is not among the ids: each log, the ids, and the least id of the log that they lack.
 NOT_FITTING = [
-    ([[1]], [], 1), ([[2]], [1, 3], 2), (EXAMPLE_LOG, [1, 2, 4, 5, 6], 7), (EXAMPLE_LOG, [3], 2), (EXAMPLE_LOG, [2, 3], 4),
-    ([[], [3], [], [GREATEST]], [3], GREATEST), ([FULL], FULL[1:], 1), ([FULL], FULL[:-1], 30), ([[1, 2], [3, 4]], [1, 2, 4], 3),
+    ([[1]], [], 1), ([[2]], [1, 3], 2), (EXAMPLE_LOG, [1, 2, 4, 5, 6], 7), (EXAMPLE_LOG, [3], 2),
+    (EXAMPLE_LOG, [2, 3], 4),
+    ([[], [3], [], [GREATEST]], [3], GREATEST), ([FULL], FULL[1:], 1), ([FULL], FULL[:-1], 30),
+    ([[1, 2], [3, 4]], [1, 2, 4], 3),
 ]
 
 
@@ -37,7 +38,8 @@ class ExamplesTest(ExactCase):
 
     def test_logs(self):
         self.assertEqual(
-            [is_log(EXAMPLE_LOG), is_log([[2], [], [1]]), fits(EXAMPLE_LOG, [2, 4, 5, 6]), blocks(EXAMPLE_LOG, [1, 2, 3, 4, 5, 6, 7, 9])],
+            [is_log(EXAMPLE_LOG), is_log([[2], [], [1]]), fits(EXAMPLE_LOG, [2, 4, 5, 6]),
+             blocks(EXAMPLE_LOG, [1, 2, 3, 4, 5, 6, 7, 9])],
             [True, False, False,
              {1: (1, 3), 2: (0, 0), 3: (2, 3), 4: (1, 1), 5: (1, 1), 6: (2, 2), 7: (2, 2), 9: (3, 3)}])
 
@@ -47,7 +49,8 @@ class ExamplesTest(ExactCase):
                          [True, False, True, False, False])
 
     def test_counts(self):
-        self.assertEqual([count_orders(EXAMPLE_LOG, EXAMPLE_IDS), count_orders([[2], []], [1, 2]), count_orders([], [1, 2, 3])],
+        self.assertEqual([count_orders(EXAMPLE_LOG, EXAMPLE_IDS), count_orders([[2], []], [1, 2]),
+                          count_orders([], [1, 2, 3])],
                          [72, 1, 6])
 
     def test_orders(self):

@@ -50,6 +50,22 @@ INTERFACE = {
         "missing_runs": "log", "found_again": "log, order, moment", "count_ranges": "log, budget",
         "ranges_for": "log, budget", "is_repair": "log, budget, value",
     },
+    "rounds": {
+        "is_round": "value", "far_lost": "steps, times", "far_cursor": "steps, times", "lost_rate": "steps",
+        "written_out": "steps, times",
+    },
+    "texts": {"format_history": "history", "format_log": "log", "parse_history": "text", "parse_log": "text"},
+}
+
+# For each class its own methods, the double-underscore ones and the properties included.
+CLASSES = {
+    ("live", "LiveTable"): {
+        "__init__": "self", "begin": "self", "commit": "self, row", "rollback": "self, row", "poll": "self, name",
+        "run": "self, *events", "cursor_of": "self, name", "lost_of": "self, name", "undo": "self", "fork": "self",
+        "of": "cls, history", "order": "self", "open_ids": "self", "readers": "self", "__eq__": "self, other",
+        "__len__": "self",
+    },
+    ("console", "Console"): {"__init__": "self", "execute": "self, row"},
 }
 
 
@@ -97,6 +113,22 @@ class PackageTest(unittest.TestCase):
             for function, parameters in functions.items():
                 self.assertEqual(defined.get(function), parameters, function)
                 self.assertEqual(str(inspect.signature(getattr(module, function))), f"({parameters})")
+
+    def test_methods_of_the_interface_are_defined_in_their_classes(self):
+        for (name, word), methods in CLASSES.items():
+            tree = tree_of(TOP / "lateids" / (name + ".py"))
+            bodies = [node.body for node in tree.body if isinstance(node, ast.ClassDef) and node.name == word]
+            self.assertEqual(len(bodies), 1)
+            defined = {node.name: ast.unparse(node.args) for node in bodies[0] if isinstance(node, ast.FunctionDef)}
+            for method, parameters in methods.items():
+                self.assertEqual(defined.get(method), parameters, method)
+        table = importlib.import_module("lateids.live").LiveTable
+        self.assertEqual([type(vars(table)[word]) for word in ["order", "open_ids", "readers", "of"]],
+                         [property, property, property, classmethod])
+
+    def test_each_file_of_the_interface_is_there(self):
+        names = set(INTERFACE) | {name for name, _ in CLASSES} | {"errors", "checks", "__init__"}
+        self.assertEqual({file.stem for file in FILES}, names)
 
     def test_examples_of_the_readme(self):
         failed, tried = doctest.testfile(str(TOP / "README.md"), module_relative=False)

@@ -1,6 +1,5 @@
 """Repair: points [44] to [46], and the conventions [2] for them."""
 
-import itertools
 import random
 import unittest
 
@@ -11,7 +10,8 @@ from readings import FULL, WRONG_LOGS, drawn_order, some_cases
 from samples import NO_INTEGERS, NO_LISTS, STRANGE, Equal, ExactCase, Odd, changed, steps_of
 
 LOG = [[2], [4, 5], [9]]
-LOGS = [log for log, _ in some_cases()] + [LOG, [[2 * row for row in FULL]], [[GREATEST]], [[1], [GREATEST]], [[GREATEST - 1, GREATEST]]]
+LOGS = [log for log, _ in some_cases()] + [LOG, [[2 * row for row in FULL]], [[GREATEST]], [[1], [GREATEST]],
+                                           [[GREATEST - 1, GREATEST]]]
 
 
 def returned_of(log):
@@ -92,7 +92,8 @@ class MissingTest(ExactCase):
                 self.assertEqual([type(run), type(run[0]), type(run[1]), len(run)], [tuple, int, int, 2])
 
     def test_known_runs(self):
-        self.assertEqual([missing_runs([]), missing_runs([[1]]), missing_runs([[2]]), missing_runs([FULL])], [[], [], [(1, 1)], []])
+        self.assertEqual([missing_runs([]), missing_runs([[1]]), missing_runs([[2]]), missing_runs([FULL])],
+                         [[], [], [(1, 1)], []])
         self.assertEqual(missing_runs([[GREATEST]]), [(1, GREATEST - 1)])
         self.assertEqual(missing_runs([[1], [3], [], [GREATEST]]), [(2, 2), (4, GREATEST - 1)])
         self.assertEqual(missing_runs([[GREATEST - 1, GREATEST]]), [(1, GREATEST - 2)])
@@ -130,7 +131,8 @@ class AllRepairsTest(ExactCase):
                 if missing <= covered:
                     most.setdefault(cost, []).append(len(value))
                 for budget in {0, max(0, cost - 1), cost, cost + 1}:
-                    self.assertIs(is_repair(log, budget, value), missing <= covered and cost <= budget, (log, budget, value))
+                    self.assertIs(is_repair(log, budget, value), missing <= covered and cost <= budget,
+                                  (log, budget, value))
             for budget in [0, 1, 2, 3, 4, 5, 6, 7, GREATEST]:
                 least = min(many for cost, numbers in most.items() if cost <= budget for many in numbers)
                 self.assertEqual(count_ranges(log, budget), least, (log, budget))
@@ -181,21 +183,26 @@ class IsRepairTest(ExactCase):
     def values_near(self, source, log, budget):
         """Return lists of ranges that are moved, cut, joined, left out, put in, touching or overlapping."""
         found = ranges_for(log, budget)
-        values = [found, found + [(GREATEST, GREATEST)], found + [(GREATEST, GREATEST + 1)], [(1, GREATEST)], [(0, GREATEST)], []]
+        values = [found, found + [(GREATEST, GREATEST)], found + [(GREATEST, GREATEST + 1)], [(1, GREATEST)],
+                  [(0, GREATEST)], []]
         cursor = max(returned_of(log), default=0)
         values += [found + [(cursor + 1, cursor + 1)], found + [(cursor, cursor)], found + [(cursor + 1, GREATEST)]]
         for at, (first, last) in enumerate(found):
             middle = source.randint(first, last)
             before, behind = found[:at], found[at + 1:]
             values += [
-                before + behind, before + [(first, middle), (middle + 1, last)] + behind, before + [(first, middle), (middle, last)] + behind,
+                before + behind, before + [(first, middle), (middle + 1, last)] + behind,
+                before + [(first, middle), (middle, last)] + behind,
                 before + [(first, middle), (middle + 2, last)] + behind, before + [(first + 1, last)] + behind,
-                before + [(first, last - 1)] + behind, before + [(first - 1, last)] + behind, before + [(first, last + 1)] + behind,
-                before + [(first, last)] * 2 + behind, before + [(last, first)] + behind, before + [[first, last]] + behind,
+                before + [(first, last - 1)] + behind, before + [(first - 1, last)] + behind,
+                before + [(first, last + 1)] + behind,
+                before + [(first, last)] * 2 + behind, before + [(last, first)] + behind,
+                before + [[first, last]] + behind,
                 before + [(first, last, last)] + behind, before + [(first,)] + behind, before + [(first, True)] + behind,
             ]
             if behind:
-                values += [before + [(first, behind[0][1])] + behind[1:], before + [behind[0], (first, last)] + behind[1:]]
+                values += [before + [(first, behind[0][1])] + behind[1:],
+                           before + [behind[0], (first, last)] + behind[1:]]
                 values += [before + [(first, behind[0][0] - 1)] + behind, before + [(first, behind[0][0])] + behind]
         return values
 
@@ -215,8 +222,10 @@ class IsRepairTest(ExactCase):
     def test_any_value(self):
         for log in [[], [[1]], LOG, [[GREATEST]]]:
             for value in NO_LISTS + [[value] for value in STRANGE] + [[(1, 8), value] for value in STRANGE] + [
-                    [(1, 8)] * 400, [(row, row) for row in range(1, 401)], [Odd()] * 400, [(Odd(), 1)], [(1, Odd())], [(1, None)],
-                    [(1, 8.0)], [(True, 8)], [(1.0, 8)], [("1", 8)], [(1, 8), Equal()], [(Equal(), 8)], [[(1, 8)]], ((1, 8),)]:
+                    [(1, 8)] * 400, [(row, row) for row in range(1, 401)], [Odd()] * 400, [(Odd(), 1)], [(1, Odd())],
+                    [(1, None)],
+                    [(1, 8.0)], [(True, 8)], [(1.0, 8)], [("1", 8)], [(1, 8), Equal()], [(Equal(), 8)], [[(1, 8)]],
+                    ((1, 8),)]:
                 for budget in [0, 3, 30]:
                     self.assertIs(is_repair(log, budget, value), plainly_a_repair(log, budget, value), (log, value))
 

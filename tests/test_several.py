@@ -12,10 +12,12 @@ from readings import FULL, WRONG_IDS, WRONG_LOGS, drawn_ids
 from samples import NO_INTEGERS, NO_LISTS, STRANGE, Equal, ExactCase, Odd, changed, spoil, steps_of
 
 EXAMPLE_LOGS = [[[1, 3], [4]], [[1], [2, 3, 4]]]
-EXAMPLE_RUN = [("commit", 1), ("poll", 1), ("commit", 3), ("poll", 0), ("commit", 2), ("commit", 4), ("poll", 0), ("poll", 1)]
+EXAMPLE_RUN = [("commit", 1), ("poll", 1), ("commit", 3), ("poll", 0), ("commit", 2), ("commit", 4), ("poll", 0),
+               ("poll", 1)]
 
 WRONG_LISTS = NO_LISTS + [
-    [], [[]] * 5, [[[1]]] * 5, [[[]] * 9], [[], [[]] * 9], [[], [[row] for row in range(1, 10)]], ([],), [([],)], [()], [[], ()],
+    [], [[]] * 5, [[[1]]] * 5, [[[]] * 9], [[], [[]] * 9], [[], [[row] for row in range(1, 10)]], ([],), [([],)], [()],
+    [[], ()],
     [None], [1], [[1]], [[1, 2], []], [Odd()], [[], Odd()], [Equal()], ["1"], [{}], {1: []},
 ] + [[log] for log in WRONG_LOGS] + [[[[1]], log] for log in WRONG_LOGS]
 
@@ -134,9 +136,12 @@ def some_logs():
     """Return tuples of logs and ids: of drawn runs, and those parted anew."""
     source = random.Random(40)
     cases = [
-        (EXAMPLE_LOGS, [1, 2, 3, 4]), ([[[2], [3]], [[3]]], [2, 3]), ([[[2], [3]], [[2, 3]]], [2, 3]), ([[]], []), ([[], [], [], []], FULL),
-        ([[[]] * 8] * 4, FULL), ([[[]]], [1]), ([[FULL], [FULL]], FULL), ([[[1]], [[2]]], [1, 2]), ([[[1, 3]], [[2, 4]]], [1, 2, 3, 4]),
-        ([[[1]], [[2]], [[3]], [[4]]], [1, 2, 3, 4]), ([[[2]], [[1]]], [1, 2]), ([[[GREATEST]], [[], [1, GREATEST]]], [1, GREATEST]),
+        (EXAMPLE_LOGS, [1, 2, 3, 4]), ([[[2], [3]], [[3]]], [2, 3]), ([[[2], [3]], [[2, 3]]], [2, 3]), ([[]], []),
+        ([[], [], [], []], FULL),
+        ([[[]] * 8] * 4, FULL), ([[[]]], [1]), ([[FULL], [FULL]], FULL), ([[[1]], [[2]]], [1, 2]),
+        ([[[1, 3]], [[2, 4]]], [1, 2, 3, 4]),
+        ([[[1]], [[2]], [[3]], [[4]]], [1, 2, 3, 4]), ([[[2]], [[1]]], [1, 2]),
+        ([[[GREATEST]], [[], [1, GREATEST]]], [1, GREATEST]),
         ([[[1], [2]], [[1], [2]], [], [[]]], [1, 2, 3]),
     ]
     for many in range(1, 5):
@@ -160,7 +165,8 @@ class ExamplesTest(ExactCase):
         logs = [[[2], [3]], [[3]]]
         found = conflict(logs, [2, 3])
         self.assertEqual(
-            [is_conflict(logs, [2, 3], found), is_conflict(logs, [2, 3], [(0, 0), (1, 0)]), conflict([[[2], [3]], [[2, 3]]], [2, 3])],
+            [is_conflict(logs, [2, 3], found), is_conflict(logs, [2, 3], [(0, 0), (1, 0)]),
+             conflict([[[2], [3]], [[2, 3]]], [2, 3])],
             [True, True, None])
 
     def test_runs(self):
@@ -170,7 +176,8 @@ class ExamplesTest(ExactCase):
 
     def test_rows(self):
         logs, ids = EXAMPLE_LOGS, [1, 2, 3, 4]
-        self.assertEqual([count_rows(logs, ids), is_ahead(logs, ids, (0, 0), (1, 1)), is_ahead(logs, ids, (0, 1), (1, 1))],
+        self.assertEqual([count_rows(logs, ids), is_ahead(logs, ids, (0, 0), (1, 1)),
+                          is_ahead(logs, ids, (0, 1), (1, 1))],
                          [2, True, False])
 
 
@@ -213,7 +220,8 @@ class AllRunsTest(SeveralCase):
             self.assertIs(is_run(logs, ids, run), True)
             self.check_conflict(logs, ids, False)
             self.check_rows(logs, ids, sorted(rows))
-        own = [{repr(logs[reader]): logs[reader] for logs, _, _ in found.values()}.values() for reader in range(len(counts))]
+        own = [{repr(logs[reader]): logs[reader] for logs, _, _ in found.values()}.values()
+               for reader in range(len(counts))]
         others = [list(logs) for logs in itertools.product(*own) if repr(list(logs)) not in found]
         for logs in others[:most]:
             self.check_conflict(logs, ids, True)
@@ -308,13 +316,16 @@ class DrawnLogsTest(SeveralCase):
             self.assertEqual(count_rows(logs, ids), counts[tuple(len(log) for log in logs)], (logs, ids))
 
     def test_known_numbers(self):
-        self.assertEqual([count_rows([[]], []), count_rows([[], []], FULL), run_for([[]], []), conflict([[]], [1])], [1, 1, [], None])
+        self.assertEqual([count_rows([[]], []), count_rows([[], []], FULL), run_for([[]], []), conflict([[]], [1])],
+                         [1, 1, [], None])
         self.assertEqual(count_rows([[[]] * 8] * 4, FULL), math.factorial(32) // math.factorial(8) ** 4)
         self.assertEqual(count_rows([[[]] * 8] * 4, []), math.factorial(32) // math.factorial(8) ** 4)
         self.assertEqual(count_rows([[[]] * 8, [], [[]]], [1]), 9)
         self.assertEqual(count_rows([[[]], [[1]], [[]]], [1]), 2)
-        self.assertEqual([arrows([[[1]], [[2]]], [1, 2]), arrows([[[1]], [[]]], [1])], [[((0, 0), (1, 0)), ((1, 0), (0, 0))], [((1, 0), (0, 0))]])
-        self.assertEqual([arrows([[[1], [2]]], [1, 2]), arrows([[], [[1]]], [1]), arrows([[[1]], [[1]]], [1])], [[], [], []])
+        self.assertEqual([arrows([[[1]], [[2]]], [1, 2]), arrows([[[1]], [[]]], [1])],
+                         [[((0, 0), (1, 0)), ((1, 0), (0, 0))], [((1, 0), (0, 0))]])
+        self.assertEqual([arrows([[[1], [2]]], [1, 2]), arrows([[], [[1]]], [1]), arrows([[[1]], [[1]]], [1])],
+                         [[], [], []])
         self.assertEqual(arrows([[[2]], [[1]]], [1, 2]), [((0, 0), (1, 0)), ((1, 0), (0, 0))])
 
 
@@ -324,14 +335,17 @@ class JudgesTest(ExactCase):
     def test_any_value_is_no_conflict(self):
         for logs, ids in CASES[:60]:
             for value in NO_LISTS + [[value] for value in STRANGE] + [[(0, 0), value] for value in STRANGE] + [
-                    [], [(0, 0)], [(0, 0)] * 2, [(0, 0)] * 400, [Odd()] * 400, ((0, 0), (1, 0)), [[0, 0], [1, 0]], [(0, 0, 0), (1, 0, 0)]]:
+                    [], [(0, 0)], [(0, 0)] * 2, [(0, 0)] * 400, [Odd()] * 400, ((0, 0), (1, 0)), [[0, 0], [1, 0]],
+                    [(0, 0, 0), (1, 0, 0)]]:
                 self.assertIs(is_conflict(logs, ids, value), plainly_a_conflict(logs, ids, value), (logs, value))
 
     def test_any_value_is_no_run(self):
         for logs, ids in CASES[:60]:
             for value in NO_LISTS + [[value] for value in STRANGE] + [[("poll", 0), value] for value in STRANGE] + [
-                    [], [("poll", 0)] * 400, [("commit", 1)] * 400, [Odd()] * 400, [["poll", 0]], [("poll",)], [("begin", 1)],
-                    [("poll", True)], [("poll", 1.0)], [("poll", -1)], [("poll", 4)], [("commit", Odd())], [(Odd(), 1)], [("poll", "a")]]:
+                    [], [("poll", 0)] * 400, [("commit", 1)] * 400, [Odd()] * 400, [["poll", 0]], [("poll",)],
+                    [("begin", 1)],
+                    [("poll", True)], [("poll", 1.0)], [("poll", -1)], [("poll", 4)], [("commit", Odd())], [(Odd(), 1)],
+                    [("poll", "a")]]:
                 self.assertIs(is_run(logs, ids, value), plainly_a_run(logs, ids, value), (logs, value))
 
     def test_conflicts_with_one_change(self):
@@ -357,7 +371,8 @@ class JudgesTest(ExactCase):
         self.assertEqual(arrows(logs, ids), [((0, 2), (1, 0)), ((1, 0), (0, 0))])
         for value in [[(0, 0), (0, 1), (0, 2), (1, 0)], [(0, 0), (0, 2), (1, 0)], [(0, 2), (1, 0), (0, 0), (0, 1)]]:
             self.assertIs(is_conflict(logs, ids, value), True)
-        for value in [[(0, 0), (0, 1), (1, 0)], [(0, 0), (0, 3), (1, 0)], [(0, 0), (1, 0)], [(0, 2), (0, 0)], [(0, 0), (0, 1)],
+        for value in [[(0, 0), (0, 1), (1, 0)], [(0, 0), (0, 3), (1, 0)], [(0, 0), (1, 0)], [(0, 2), (0, 0)],
+                      [(0, 0), (0, 1)],
                       [(0, 1), (0, 0), (0, 2), (1, 0)], [(1, 0), (0, 2), (0, 0)]]:
             self.assertIs(is_conflict(logs, ids, value), False)
 
@@ -404,8 +419,10 @@ class ErrorsTest(ExactCase):
         cases = [(EXAMPLE_LOGS, [1, 2, 3, 4]), ([[[2], [3]], [[3]]], [2, 3]), ([[[]]], []), ([[[1]], [], [[]]], [1])]
         for logs, ids in cases:
             wrong = NO_INTEGERS + NO_LISTS + [
-                0, 1, (0,), (0, 0, 0), [0, 0], (0, -1), (-1, 0), (len(logs), 0), (0, len(logs[0])), (1, 8), (0, 8), (0, GREATEST),
-                (False, 0), (0, False), (0, None), (None, 0), (0.0, 0), (0, 0.0), ("0", 0), (0, "0"), ((0, 0), 0), (0, (0,)),
+                0, 1, (0,), (0, 0, 0), [0, 0], (0, -1), (-1, 0), (len(logs), 0), (0, len(logs[0])), (1, 8), (0, 8),
+                (0, GREATEST),
+                (False, 0), (0, False), (0, None), (None, 0), (0.0, 0), (0, 0.0), ("0", 0), (0, "0"), ((0, 0), 0),
+                (0, (0,)),
                 (Odd(), 0), (0, Odd()), (Equal(), 0), (0, Equal()), Odd(), Equal(), "00", {0: 0},
             ]
             for poll in wrong:
